@@ -1,4 +1,4 @@
-"""Ranges and patterns: reading and writing their texts."""
+"""Ranges and patterns: reading and writing their texts, and what they match."""
 
 from runwishes.texts import LARGEST_NUMBER, is_name, read_number
 
@@ -87,3 +87,18 @@ def same_pattern(one, other):
     if one.kind != other.kind or one.subject != other.subject:
         return False
     return one.numbers == other.numbers and one.gaps == other.gaps
+
+
+def fits_event(pattern, event):
+    """Whether the pattern matches the event."""
+    if not fits_name(pattern.kind, event.kind) or not fits_name(pattern.subject, event.subject):
+        return False
+    return fits_range(pattern.numbers, event.number) and fits_range(pattern.gaps, event.gap)
+
+
+def fits_name(asked, name):
+    return asked == "" or asked == name
+
+
+def fits_range(bounds, number):
+    return bounds is None or bounds[0] <= number <= bounds[1]

@@ -67,3 +67,23 @@ def run_of(many):
 
 def text_answer(text):
     return [0] + row(text)
+
+
+def on_run(run, name, *given):
+    """What one call answers on an object that this run was loaded into."""
+    found = asked(call("load", run), call(name, *given), call("text"))
+    if found[0] != [0] or found[2] != text_answer(run):
+        raise AssertionError("the run is not the one that was loaded")
+    return found[1]
+
+
+def with_length(text):
+    return [len(text)] + row(text)
+
+
+# A wish's text for each of its faults, and the fault.
+FAULTS = [
+    ("true" + " " * 997, [1, 0]), ("[a", [2, 0]), ("within 10 true", [2, 7]), ("always", [3, 6]), ("", [3, 0]),
+    ("[a] [b]", [3, 4]), ("(" * 21, [4, 20]), ("true & " * 15 + "true", [5, 0]),
+    ("[a]&[b]&[c]&[d]&[e]&[f]", [6, 0]),
+]

@@ -29,6 +29,9 @@ NOT_AS_VALUES = """items keys values pop update append clear extend insert remov
     format""".split()
 MAY_BE_VALUES = "count index title find get join lower upper split strip copy add".split()
 
+WALKING = "list tuple dict sorted sum any all enumerate zip min max".split()
+TO_BE_WALKED = "zip enumerate reversed range items keys values".split()
+
 TOP = (ast.ImportFrom, ast.FunctionDef, ast.ClassDef, ast.Assign)
 STATEMENTS = (ast.Assign, ast.AugAssign, ast.If, ast.While, ast.For, ast.Return, ast.Break, ast.Continue, ast.Pass,
               ast.Raise, ast.Try, ast.Expr, ast.FunctionDef, ast.ClassDef, ast.ImportFrom)
@@ -41,6 +44,11 @@ def nodes_of(kind):
         for node in ast.walk(tree):
             if isinstance(node, kind):
                 yield f"{name}:{getattr(node, 'lineno', 0)}", node
+
+
+def called(node):
+    """The name of the function or the method that is called."""
+    return node.func.attr if isinstance(node.func, ast.Attribute) else getattr(node.func, "id", "")
 
 
 def is_plain(node):
@@ -234,6 +242,30 @@ class Code(unittest.TestCase):
         for where, node in nodes_of(ast.Call):
             if isinstance(node.func, ast.Attribute):
                 self.assertTrue(node.func.attr in METHODS or node.func.attr in methods, f"L25 {where}")
+
+    def test_L22_keywords(self):
+        for where, node in nodes_of(ast.Call):
+            self.assertEqual(node.keywords, [], f"L22 {where}")
+
+    def test_L23_walked_at_once(self):
+        for name, tree in TREES.items():
+            walked = set()
+            for node in ast.walk(tree):
+                if isinstance(node, (ast.For, ast.comprehension)):
+                    walked.add(node.iter)
+                if isinstance(node, ast.Call) and called(node) in WALKING:
+                    walked |= set(node.args[:1])
+            for node in ast.walk(tree):
+                if isinstance(node, ast.Call) and called(node) in TO_BE_WALKED:
+                    self.assertIn(node, walked, f"L23 {name}:{node.lineno}")
+
+    def test_L24_sets(self):
+        for name, tree in TREES.items():
+            inside = {one for node in ast.walk(tree) if isinstance(node, ast.Call) and called(node) in ("sorted", "len")
+                      for one in node.args}
+            for node in ast.walk(tree):
+                if isinstance(node, ast.Call) and called(node) in ("set", "frozenset"):
+                    self.assertIn(node, inside, f"L24 {name}:{node.lineno}")
 
     def test_L27_texts(self):
         for where, node in nodes_of(ast.Constant):
